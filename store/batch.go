@@ -58,6 +58,10 @@ func encodeChange(c api.Change) []byte {
 
 // Decode: the batch of bytes.
 func Decode(b []byte) ([]api.Change, api.Errno) {
+	if len(b) > api.MaxBody {
+		// Of so many bytes Encode writes no batch, and what is read must be written as the bytes were.
+		return nil, api.ErrBatch
+	}
 	r := bin.New(b)
 	n := r.Uint()
 	if n > api.MaxBatch {

@@ -74,7 +74,7 @@ func plainDecode(b []byte) ([]api.Change, api.Errno) {
 		}
 		l = append(l, c)
 	}
-	if !plainRight(l) || !bytes.Equal(plainBytes(l), b) {
+	if again, err := plainEncode(l); err != api.OK || !bytes.Equal(again, b) {
 		return nil, api.ErrBatch
 	}
 	return l, api.OK
@@ -140,7 +140,7 @@ func checkDecode(t *testing.T, b []byte) {
 		t.Errorf("Decode(%x) kept the bytes", before)
 	}
 	copy(b, before)
-	if again, err2 := store.Encode(l); err == api.OK && len(b) <= api.MaxBody && (err2 != api.OK || !bytes.Equal(again, b)) {
+	if again, err2 := store.Encode(l); err == api.OK && (err2 != api.OK || !bytes.Equal(again, b)) {
 		t.Errorf("Encode(Decode(%x)): %x, %d", b, again, err2)
 	}
 }
@@ -215,15 +215,65 @@ func TestLong(t *testing.T) {
 	}
 }
 
-// Bytes of a batch are that batch's also where Encode calls them too many.
-func TestDecodeLong(t *testing.T) {
-	for _, n := range []int{7, 8, 31, 32, 33, 40} {
-		l := slices.Repeat(set(text(1, 16), text(2, 128)), n)
-		checkDecode(t, plainBytes(l))
-		checkDecode(t, append(plainBytes(l), 0))
+// sized: a batch of just so many bytes, of so many changes; all but the last one have values of about one size.
+func sized(n, count int, last api.Change) []api.Change {
+	l := append(slices.Repeat(set("k", ""), count-1), last)
+	for i := 0; len(plainBytes(l)) < n; i = (i + 1) % (count - 1) {
+		l[i].Value += "v"
 	}
-	if l, err := store.Decode(plainBytes(slices.Repeat(set(text(1, 16), text(2, 128)), 32))); len(l) != 32 || err != api.OK {
-		t.Errorf("%d changes, %d", len(l), err)
+	return l
+}
+
+// Right changes in just as many bytes as Encode writes are a batch; in one more, or in more, they are none.
+func TestDecodeLong(t *testing.T) {
+	for _, last := range []api.Change{{Key: "k", Value: "v"}, {Key: "k"}, {Key: "k", Gone: true}, {Key: text(1, 16), Value: text(2, 20)}} {
+		for _, count := range []int{9, 20, 32} {
+			for n := api.MaxBody - 9; n < api.MaxBody+9; n++ {
+				l := sized(n, count, last)
+				checkLong(t, l, n)
+				checkDecode(t, append(plainBytes(l), 0))
+				checkDecode(t, plainBytes(l)[:n-1])
+			}
+		}
+		for _, n := range []int{1100, 1279, 1280, 2047, 2048, 2049, 3000} {
+			checkLong(t, sized(n, 32, last), n)
+		}
+	}
+	for n := range 33 {
+		checkDecode(t, plainBytes(slices.Repeat(set(text(1, 16), text(2, 128)), n)))
+	}
+}
+
+// checkLong: right changes, of n bytes, are read and written alike, or are neither.
+func checkLong(t *testing.T, l []api.Change, n int) {
+	t.Helper()
+	b := plainBytes(l)
+	if err := store.Right(l); err != api.OK || len(b) != n {
+		t.Fatalf("%d changes, %d bytes, not %d: Right: %d", len(l), len(b), n, err)
+	}
+	want, readErr, writeErr := l, api.OK, api.OK
+	if n > 1024 {
+		want, readErr, writeErr = nil, api.ErrBatch, api.ErrLong
+	}
+	if l, err := store.Decode(b); !slices.Equal(l, want) || err != readErr {
+		t.Errorf("Decode of %d bytes: %d changes, %d, not %d, %d", n, len(l), err, len(want), readErr)
+	}
+	if _, err := store.Encode(l); err != writeErr {
+		t.Errorf("Encode of %d bytes: %d, not %d", n, err, writeErr)
+	}
+	checkEncode(t, l)
+	checkDecode(t, b)
+}
+
+// Eight changes, each right for itself, of 1049 bytes together.
+func TestDecodeEightLong(t *testing.T) {
+	b := []byte{8}
+	for key := byte('a'); key <= 'h'; key++ {
+		b = append(b, 1, key, 0, 127)
+		b = append(b, strings.Repeat("v", 127)...)
+	}
+	if l, err := store.Decode(b); l != nil || err != api.ErrBatch || len(b) != 1049 {
+		t.Errorf("Decode of %d bytes: %d changes, %d", len(b), len(l), err)
 	}
 }
 

@@ -322,5 +322,7 @@ func FuzzStore(f *testing.F) {
 func FuzzDecode(f *testing.F) {
 	f.Add([]byte("\x02\x01a\x00\x01x\x01b\x01"))
 	f.Add([]byte("\x01\x01a\x00\x80\x00"))
+	f.Add(plainBytes(sized(api.MaxBody, 9, api.Change{Key: "k"})))
+	f.Add(plainBytes(sized(api.MaxBody+1, 9, api.Change{Key: "k"})))
 	f.Fuzz(func(t *testing.T, b []byte) { checkDecode(t, b) })
 }
