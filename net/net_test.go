@@ -370,6 +370,24 @@ func TestBack(t *testing.T) {
 	}
 }
 
+// The chapter's example: two are under way, and the one that is late is behind the other.
+func TestBackOfTwo(t *testing.T) {
+	n := fresh(t, 2)
+	send(t, n, packet(0, 1, "a"), packet(0, 1, "b"))
+	if !n.Back(0) || n.Len() != 2 {
+		t.Errorf("behind Back(0) %d are under way", n.Len())
+	}
+	checkRow(t, n, packet(0, 1, "b"), packet(0, 1, "a"))
+	for _, text := range []string{"b", "a"} {
+		if p, ok := n.Take(0); !ok || !same(p, packet(0, 1, text)) {
+			t.Errorf("Take(0): %v, %t, not %q", p, ok, text)
+		}
+	}
+	if p, ok := n.Take(0); ok || !isZero(p) || n.Len() != 0 {
+		t.Errorf("Take(0) behind all: %v, %t, %d under way", p, ok, n.Len())
+	}
+}
+
 // A packet may be late however many are under way.
 func TestBackFull(t *testing.T) {
 	n, want := full(t)

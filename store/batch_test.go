@@ -60,9 +60,9 @@ func plainDecode(b []byte) ([]api.Change, api.Errno) {
 		return n
 	}
 	text := func() string {
-		n := min(number(), uint64(len(rest)))
-		s := string(rest[:n])
-		rest = rest[n:]
+		n := number() // changes the rest, so it is not asked for in one statement with that
+		s := string(rest[:min(n, uint64(len(rest)))])
+		rest = rest[len(s):]
 		return s
 	}
 	var l []api.Change
