@@ -353,29 +353,28 @@ func FuzzHeal(f *testing.F) {
 	f.Fuzz(play)
 }
 
-// All arrangements of four nodes on three sites, all that may be up, all that one chunk may be on, beside loads of all kinds.
+// All arrangements of four nodes on three sites, all that may be up, all that one chunk may be on, beside loads of many kinds.
 func TestAllSmall(t *testing.T) {
-	for n := range 81 {
-		sites := []int{n % 3, n / 3 % 3, n / 9 % 3, n / 27}
-		for on := range 16 * 16 {
-			l := []api.Place{place(1), place(2), place(3, n%4)}
-			for node := range 4 {
-				for at := range 2 {
-					if on>>(4*at+node)%2 == 1 {
-						l[at].Nodes = append(l[at].Nodes, node)
-					}
-				}
+	for n := range 81 * 16 * 16 {
+		arranged, up, on := n/256, uint32(n/16%16), n%16
+		sites := []int{arranged % 3, arranged / 3 % 3, arranged / 9 % 3, arranged / 27}
+		l := []api.Place{place(1), place(2), place(3, n%4), place(4, n/7%4)}
+		for node := range 4 {
+			if on>>node%2 == 1 {
+				l[1].Nodes = append(l[1].Nodes, node)
 			}
-			up := uint32(1+n*7+on*3) % 16
-			for copies := 1; copies < 5; copies++ {
-				want, _ := plainMoves(false, sites, up, copies, l)
-				if got := plans(t, heal.Plan, sites, up, copies, l); !slices.Equal(got, want) {
-					t.Fatalf("Plan(%d, %b, %d, %v): %v, not %v", sites, up, copies, l, got, want)
-				}
-				want, _ = plainMoves(true, sites, up, copies, l)
-				if got := plans(t, heal.Drop, sites, up, copies, l); !slices.Equal(got, want) {
-					t.Fatalf("Drop(%d, %b, %d, %v): %v, not %v", sites, up, copies, l, got, want)
-				}
+			if n/3>>node%2 == 1 {
+				l[0].Nodes = append(l[0].Nodes, node)
+			}
+		}
+		for copies := 1; copies < 5; copies++ {
+			want, _ := plainMoves(false, sites, up, copies, l)
+			if got := plans(t, heal.Plan, sites, up, copies, l); !slices.Equal(got, want) {
+				t.Fatalf("Plan(%d, %b, %d, %v): %v, not %v", sites, up, copies, l, got, want)
+			}
+			want, _ = plainMoves(true, sites, up, copies, l)
+			if got := plans(t, heal.Drop, sites, up, copies, l); !slices.Equal(got, want) {
+				t.Fatalf("Drop(%d, %b, %d, %v): %v, not %v", sites, up, copies, l, got, want)
 			}
 		}
 	}
